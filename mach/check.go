@@ -1,6 +1,9 @@
 package mach
 
-import "ostler/api"
+import (
+	"ostler/api"
+	"ostler/place"
+)
 
 // checker of an output whose function, machine and frame may be.
 type checker struct {
@@ -9,30 +12,14 @@ type checker struct {
 	o api.Output
 }
 
-// isReg: is it a register, where each class has so many?
-func isReg(p api.Place, regs [api.Classes]int) bool {
-	if p.Kind != api.InReg || p.Class < 0 || p.Class >= api.Classes {
-		return false
-	}
-	return p.N >= 0 && p.N < regs[p.Class]
-}
-
-func (c checker) isSlot(p api.Place) bool {
-	return p.Kind == api.InSlot && p.Class == 0 && p.N >= 0 && p.N < c.o.Frame
-}
-
 // mayHold: may an operand be there?
 func (c checker) mayHold(p api.Place) bool {
-	return isReg(p, c.m.Regs) || c.isSlot(p)
+	return place.IsReg(p, c.m) || place.IsSlot(p, c.o.Frame)
 }
 
 // mayMove: may a move go from there, or to there? It may use a scratch, too.
 func (c checker) mayMove(p api.Place) bool {
-	regs := c.m.Regs
-	for class := range regs {
-		regs[class]++
-	}
-	return isReg(p, regs) || c.isSlot(p)
+	return c.mayHold(p) || place.IsScratch(p, c.m)
 }
 
 func (c checker) places() api.Errno {
