@@ -1,12 +1,9 @@
 package live
 
-import "ostler/api"
-
-// endOf a block: its last point, by its first one.
-func endOf(b api.Block, first int) int { return earlyOf(first, len(b.Instrs)) }
-
-// earlyOf an instruction: the first one of its two points, by the first one of its block.
-func earlyOf(first, at int) int { return first + 1 + 2*at }
+import (
+	"ostler/api"
+	"ostler/point"
+)
 
 // stays of the values in a block, by its first point; empty, where it has nothing to do with a value.
 func (n needs) stays(f api.Func, b, first int) []api.Span {
@@ -21,7 +18,7 @@ func (n needs) stays(f api.Func, b, first int) []api.Span {
 		stays[v] = only(first)
 	}
 	for i, x := range block.Instrs {
-		early := earlyOf(first, i)
+		early := point.Early(first, i)
 		for _, o := range x.Operands {
 			at := early
 			if o.Late {
@@ -37,7 +34,7 @@ func (n needs) stays(f api.Func, b, first int) []api.Span {
 	}
 	for v := range stays {
 		if n.out[b][v] {
-			stays[v] = upTo(stays[v], endOf(block, first))
+			stays[v] = upTo(stays[v], point.End(block, first))
 		}
 	}
 	return stays

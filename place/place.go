@@ -1,4 +1,4 @@
-// Package place: which places a machine has for values.
+// Package place: which places a machine has for values, and which of them operands ask for by number.
 package place
 
 import "ostler/api"
@@ -25,6 +25,17 @@ func Scratch(class int, m api.Machine) api.Place {
 
 // Slot of this number.
 func Slot(n int) api.Place { return api.Place{Kind: api.InSlot, N: n} }
+
+// Fixed register of an operand of an instruction, and whether it has one; a Reuse has that of the operand that it names. The classes of all values are told.
+func Fixed(o api.Operand, all []api.Operand, classes []int) (api.Reg, bool) {
+	if o.Limit == api.Reuse {
+		o = all[o.N]
+	}
+	if o.Limit != api.Fixed {
+		return api.Reg{}, false
+	}
+	return api.Reg{Class: classes[o.Value], N: o.N}, true
+}
 
 func isOfRegs(p api.Place) bool {
 	return p.Kind == api.InReg && p.Class >= 0 && p.Class < api.Classes

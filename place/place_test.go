@@ -55,3 +55,33 @@ func TestKinds(t *testing.T) {
 		t.Error("a slot, where there are none")
 	}
 }
+
+// A Fixed operand has a fixed register, and a Reuse of it; no other one has.
+func TestFixed(t *testing.T) {
+	all := []api.Operand{
+		{Kind: api.Use, Value: 0, Limit: api.Fixed, N: 3},
+		{Kind: api.Use, Value: 1, Limit: api.Fixed, N: 0},
+		{Kind: api.Use, Value: 0, Limit: api.Anywhere},
+		{Kind: api.Def, Value: 2, Late: true, Limit: api.Reuse, N: 1},
+		{Kind: api.Def, Value: 3, Late: true, Limit: api.Reuse, N: 2},
+		{Kind: api.Use, Value: 1, Limit: api.Register},
+		{Kind: api.Def, Value: 3, Limit: api.Stack},
+	}
+	classes := []int{1, 0, 0, 1}
+	for i, want := range []struct {
+		r     api.Reg
+		fixed bool
+	}{
+		{api.Reg{Class: 1, N: 3}, true},
+		{api.Reg{Class: 0, N: 0}, true},
+		{},
+		{api.Reg{Class: 0, N: 0}, true},
+		{},
+		{},
+		{},
+	} {
+		if r, fixed := place.Fixed(all[i], all, classes); r != want.r || fixed != want.fixed {
+			t.Errorf("the operand %d: %v %v", i, r, fixed)
+		}
+	}
+}

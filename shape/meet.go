@@ -4,6 +4,7 @@ import (
 	"slices"
 
 	"ostler/api"
+	"ostler/place"
 )
 
 // Meet: do two operands need places of their own?
@@ -24,7 +25,7 @@ func Meet(a, b api.Operand) bool {
 // clash: do two of the instruction's operands, or an operand and a spoil, ask for one register?
 func (c checker) clash(x api.Instr) bool {
 	for i, o := range x.Operands {
-		reg, fixed := c.fixed(o, x.Operands)
+		reg, fixed := place.Fixed(o, x.Operands, c.f.Values)
 		if fixed && (o.Late || o.Kind == api.Def) && slices.Contains(x.Spoils, reg) {
 			return true
 		}
@@ -46,21 +47,10 @@ func (c checker) pairClashes(l []api.Operand, i, j int) bool {
 	if !Meet(a, b) || reuses(a, j) || reuses(b, i) {
 		return false
 	}
-	r, fixed := c.fixed(a, l)
-	s, other := c.fixed(b, l)
+	r, fixed := place.Fixed(a, l, c.f.Values)
+	s, other := place.Fixed(b, l, c.f.Values)
 	return fixed && other && r == s
 }
 
 // reuses: is the operand the Reuse of the one at that place?
 func reuses(o api.Operand, place int) bool { return o.Limit == api.Reuse && o.N == place }
-
-// fixed register of an operand, and whether it has one; a Reuse has that of the operand that it names.
-func (c checker) fixed(o api.Operand, l []api.Operand) (api.Reg, bool) {
-	if o.Limit == api.Reuse {
-		o = l[o.N]
-	}
-	if o.Limit != api.Fixed {
-		return api.Reg{}, false
-	}
-	return api.Reg{Class: c.f.Values[o.Value], N: o.N}, true
-}
